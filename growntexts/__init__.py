@@ -1,0 +1,1 @@
+"""Growntexts: programs that grow texts in boxes, compared for all inputs."""
