@@ -1,9 +1,14 @@
 """Questions about any values, which the other modules ask of their arguments."""
 
 
+def is_integer(value):
+    """Whether a value is an integer; True and False are none."""
+    return isinstance(value, int) and not isinstance(value, bool)
+
+
 def is_number(value):
-    """Whether a value is an integer from 0 on; True and False are none."""
-    return isinstance(value, int) and not isinstance(value, bool) and value >= 0
+    """Whether a value is an integer from 0 on."""
+    return is_integer(value) and value >= 0
 
 
 def is_number_below(value, end):
@@ -47,6 +52,16 @@ def first_foreign(value, alphabet):
 def is_spelt(value, alphabet):
     """Whether a value is a string of an alphabet alone, perhaps an empty one."""
     return first_foreign(value, alphabet) is None
+
+
+def is_letter(value, alphabet):
+    """Whether a value is one letter of an alphabet."""
+    return is_spelt(value, alphabet) and len(value) == 1
+
+
+def is_table(value, alphabet):
+    """Whether a value is a string with one letter of an alphabet for each of them."""
+    return is_spelt(value, alphabet) and len(value) == len(alphabet)
 
 
 def is_number_text(word):

@@ -1,6 +1,6 @@
 """Programs, which read letters and grow texts in boxes."""
 
-from growntexts.checks import is_alphabet, is_number_below, is_number_text
+from growntexts.checks import is_alphabet, is_letter, is_number_below, is_number_text
 from growntexts.checks import is_pair, is_sequence, is_spelt, is_word
 from growntexts.errors import InvalidInput, InvalidProgram, InvalidText, NoMode
 from growntexts.settings import Setting
@@ -26,7 +26,7 @@ class Program:
         """The next mode, and the settings, for a letter in a mode."""
         if not is_number_below(mode, self.modes):
             raise NoMode(mode)
-        if not is_spelt(letter, self.letters) or len(letter) != 1:
+        if not is_letter(letter, self.letters):
             raise InvalidInput(0)
         return self.ways[mode][self.letters.index(letter)]
 

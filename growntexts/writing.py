@@ -4,11 +4,16 @@ from growntexts.checks import first_foreign
 from growntexts.errors import InvalidInput
 
 
-def stand(program, text):
-    """The mode and the texts of all boxes behind an input."""
-    at = first_foreign(text, program.letters)
+def check_input(text, letters):
+    """Raises an error if a value is no string of these letters."""
+    at = first_foreign(text, letters)
     if at is not None:
         raise InvalidInput(at)
+
+
+def stand(program, text):
+    """The mode and the texts of all boxes behind an input."""
+    check_input(text, program.letters)
     mode, texts = program.begin
     for letter in text:
         mode, settings = program.way(mode, letter)

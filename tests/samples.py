@@ -3,6 +3,7 @@
 from growntexts.errors import InvalidCommand, InvalidText, NoMode
 from growntexts.programs import Program
 from growntexts.settings import Setting
+from growntexts.shapes import Shape
 
 HEAD = "program signs ab letters xy"
 MIRROR = HEAD + "\nbegin 0 -\nway 0 x 0 a.0.\nway 0 y 0 .0.b\nend 0 0 ~0"
@@ -45,6 +46,7 @@ def any_values():
     strings = ["", "a", "b", "c", "ab", "aa", "A", "aB", "a b", "a\n", "\n", " ", "-", "~0", "a.0.", "0", "1"]
     strings += ["x", "y", "z", "xy", "yx", "\u00e9", "a\u00e9", "\u00aa", "\uff41", "\u0430", "\ud800", "{", "`"]
     objects = [Setting(0), Setting(None, "a"), Program.read(MIRROR), InvalidText(0), NoMode(1), InvalidCommand()]
+    objects += [Shape("xy", [(0, 0)], [0])]
     rows = [[], (), [[]], ((),), [0], (0,), ["a"], ("a",), ["x", "y"], (0, ()), (0, []), [0, []], (0, [""])]
     rows += [(0, 0), ("box", 0), ("told", "a"), [("box", 0)], [None], (None, None, None), [True], (False, True)]
     rows += [(0, [Setting(0)]), [[(0, [Setting(0)])]], (0, [], []), [None, True, ["a", (Setting(0), -1)]]]

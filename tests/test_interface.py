@@ -13,12 +13,24 @@ CALLS = {
     "settings": {"Setting": "source head='' tail='' is_turned=False"},
     "programs": {"Program": "signs letters begin ways ends"},
     "writing": {"stand": "program text", "row_text": "row texts", "write": "program text"},
+    "shaping": {
+        "turned": "program",
+        "skipping": "program letter",
+        "recoded": "program table",
+        "respelt": "program table",
+        "behind": "program text",
+        "joined": "p q",
+    },
+    "shapes": {"Shape": "letters rooms ends", "within": "program shape"},
+    "alike": {"alike": "p q", "parting": "p q"},
+    "papers": {"figures": "p q text", "paper": "p q", "paper_holds": "p q value"},
 }
 
 # Of each class: methods with their parameters.
 METHODS = {
     ("settings", "Setting"): {"over": "self text", "read": "text", "__eq__": "self other", "__str__": "self"},
     ("programs", "Program"): {"way": "self mode letter", "read": "text", "__eq__": "self other", "__str__": "self"},
+    ("shapes", "Shape"): {"lets": "self text"},
 }
 
 
@@ -50,8 +62,9 @@ class InterfaceTest(unittest.TestCase):
                 self.assertEqual(parameters_of(getattr(value, method)), parameters, method)
 
     def test_read_is_a_class_method(self):
-        for module, name in METHODS:
-            self.assertIsInstance(vars(getattr(module_of(module), name))["read"], classmethod)
+        for (module, name), methods in METHODS.items():
+            if "read" in methods:
+                self.assertIsInstance(vars(getattr(module_of(module), name))["read"], classmethod)
 
     def test_the_package_is_empty_but_for_a_docstring(self):
         tree = ast.parse((PACKAGE / "__init__.py").read_text(encoding="ascii"))

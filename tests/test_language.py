@@ -65,6 +65,13 @@ def without_comments_and_docstrings(source):
     return ast.unparse(tree)
 
 
+def defined_names(path):
+    """The names of the functions, the classes and the values that a file defines."""
+    body = ast.parse(path.read_text(encoding="utf-8")).body
+    names = {one.name for one in body if isinstance(one, (ast.FunctionDef, ast.ClassDef))}
+    return names | {one.targets[0].id for one in body if isinstance(one, ast.Assign)}
+
+
 def each_file():
     """The path, the text and the tree of each file."""
     sources = [path.read_text(encoding="utf-8") for path in FILES]
@@ -110,9 +117,7 @@ class LanguageTest(unittest.TestCase):
                     continue
                 package, module = node.module.split(".")
                 self.assertEqual(package, "growntexts")
-                defined = {one.name for one in ast.parse((PACKAGE / f"{module}.py").read_text()).body
-                           if isinstance(one, (ast.FunctionDef, ast.ClassDef))}
-                self.assertLessEqual(names, defined)
+                self.assertLessEqual(names, defined_names(PACKAGE / f"{module}.py"))
                 imported[path.stem].add(module)
         while imported:
             free = [name for name, others in imported.items() if not others & set(imported)]
@@ -161,6 +166,17 @@ class LanguageTest(unittest.TestCase):
                     self.assertIn(node.id, BUILTINS)
                 if isinstance(node, ast.Attribute) and node.attr.startswith("__"):
                     self.assertIn(node.attr, ("__init__", "__class__", "__name__"))
+
+    def test_local_names(self):
+        for _, _, tree in each_file():
+            outer = {alias.name for node in tree.body if isinstance(node, ast.ImportFrom) for alias in node.names}
+            outer |= {node.name for node in tree.body if isinstance(node, ast.ClassDef)}
+            names = [node.arg for node in ast.walk(tree) if isinstance(node, ast.arg)]
+            names += [
+                node.id for one in functions_of(tree) for node in ast.walk(one)
+                if isinstance(node, ast.Name) and isinstance(node.ctx, ast.Store)
+            ]
+            self.assertEqual(outer & set(names), set())
 
     def test_barred_words(self):
         for _, source, _ in each_file():

@@ -1,19 +1,12 @@
 """[8]: standing and writing, and [1] to [3] as far as they speak of them."""
 
-import itertools
 import unittest
 
 from growntexts.programs import Program
 from growntexts.settings import Setting
 from growntexts.writing import row_text, stand, write
 from tests.samples import LONG, MIRROR, OTHER, TWINS, any_values, outcome
-
-
-def inputs(letters, longest):
-    """All inputs of at most so many letters."""
-    for many in range(longest + 1):
-        for row in itertools.product(letters, repeat=many):
-            yield "".join(row)
+from tests.twins import inputs
 
 
 def program_of(*lines):
