@@ -1,8 +1,10 @@
 """Whether two programs write the same for all inputs."""
 
-from growntexts.needs import figure_of, needs
-from growntexts.pairs import Pair, modes_of
-from growntexts.spans import Span
+from growntexts.needs import needs
+from growntexts.pairs import check_letters
+from growntexts.readers import Readers
+from growntexts.search import Search
+from growntexts.writing import write
 
 
 def alike(p, q):
@@ -11,43 +13,33 @@ def alike(p, q):
 
 
 def parting(p, q):
-    """The first input for which two programs do not write the same, or None.
+    """The first input for which two programs do not write the same, or None."""
+    check_letters(p, q)
+    # Many programs part at once, and then nothing has to be reckoned.
+    if write(p, "") != write(q, ""):
+        return ""
+    readers = Readers((p, q))
+    search = Search(readers, written_needs(readers))
+    return parting_behind(search, readers.first())
 
-    If the figures behind an input are a sum of multiples of those behind
-    earlier ones, it goes on so behind all further letters. So whatever begins
-    with this input is not the first one that parts the programs.
+
+def written_needs(readers):
+    """For each program and mode the figures that tell all that is written from there on."""
+    return [
+        needs(ways, [(mode, row) for mode, row in enumerate(program.ends) if row is not None])
+        for program, ways in zip(readers.programs, readers.ways)
+    ]
+
+
+def parting_behind(search, state):
+    """The first input behind a state for which two programs do not write the same, or None.
+
+    It is looked for only among inputs that are needed behind this state and
+    those that were asked for before.
     """
-    pair = Pair(p, q)
-    needed = (needs(p), needs(q))
-    spans = {}
-    queue = [("", pair.first_stands())]
-    at = 0
-    while at < len(queue):
-        text, stands = queue[at]
-        if not pair.writes_same(stands):
+    search.begin_at(state)
+    while (found := search.advance()) is not None:
+        text, led = found
+        if not search.readers.writes_same(led):
             return text
-        if is_new(spans, modes_of(stands), needed_row(needed, stands)):
-            queue.extend([(text + letter, pair.next_stands(stands, letter)) for letter in p.letters])
-        at += 1
     return None
-
-
-def needed_row(needed, stands):
-    """1, and the figures that both programs need where they stand so."""
-    row = [1]
-    for figures, (mode, boxes) in zip(needed, stands):
-        row.extend([figure_of(figure, boxes) for figure in figures[mode]])
-    return row
-
-
-def is_new(spans, modes, row):
-    """Whether a row is no sum of multiples of earlier ones of its modes.
-
-    If so, it is one of these from now on.
-    """
-    span = spans.setdefault(modes, Span(len(row)))
-    rest = span.rest(row)
-    if span.is_nothing(rest):
-        return False
-    span.put(rest)
-    return True

@@ -6,6 +6,12 @@ def is_integer(value):
     return isinstance(value, int) and not isinstance(value, bool)
 
 
+def are_integers(values):
+    """Whether all of some values are integers."""
+    # As is_integer, but papers have so many that a call for each takes long.
+    return all([isinstance(value, int) and value is not True and value is not False for value in values])
+
+
 def is_number(value):
     """Whether a value is an integer from 0 on."""
     return is_integer(value) and value >= 0

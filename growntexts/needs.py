@@ -1,30 +1,12 @@
 """Figures: products of numbers of boxes, and which of them a program needs.
 
-A figure is a tuple (place, box, others): the number of a box at a place (see
-`digits`), times the weights of other boxes, which ascend. What is written is
-told by a sum of multiples of figures, and each figure behind a letter is such
-a sum of figures ahead of it.
+A figure is the ascending tuple of the places (see `digits`) of the numbers
+that are multiplied: any number, and weights. What is written is told by a sum
+of multiples of figures, and each figure behind a letter is such a sum of
+figures ahead of it.
 """
 
-from growntexts.digits import BACK, VALUE, WEIGHT
-
-
-def figure_of(figure, boxes):
-    """What a figure is for the numbers of the boxes."""
-    place, box, others = figure
-    product = boxes[box][place]
-    for other in others:
-        product *= boxes[other][WEIGHT]
-    return product
-
-
-def weights_of(boxes):
-    """The figure that is the product of the weights of boxes, in a list.
-
-    Without boxes there is none: this product is 1 for all inputs.
-    """
-    found = sorted(boxes)
-    return [(WEIGHT, found[0], tuple(found[1:]))] if found else []
+from growntexts.digits import BACK, EACH, VALUE, WEIGHT
 
 
 def row_figures(row):
@@ -33,61 +15,62 @@ def row_figures(row):
     behind = []
     for kind, what in row[::-1]:
         if kind == "told":
-            found.extend(weights_of(behind))
+            found.append(tuple(sorted(behind)))
         else:
-            place = BACK if kind == "turned" else VALUE
-            found.append((place, what, tuple(sorted(behind))))
-            behind.append(what)
+            place = EACH * what + (BACK if kind == "turned" else VALUE)
+            found.append(tuple(sorted(behind + [place])))
+            behind.append(EACH * what + WEIGHT)
     return found
 
 
-def elder_figures(figure, settings):
-    """The figures ahead of a letter of which a figure behind it is made."""
-    place, box, others = figure
-    sources = [settings[other].source for other in others]
-    elder = sorted([source for source in sources if source is not None])
-    setting = settings[box]
-    if setting.source is None:
-        return weights_of(elder)
-    if place == WEIGHT:
-        return weights_of(elder + [setting.source])
-    found = [(elder_place(place, setting), setting.source, tuple(elder))]
-    ahead, behind = (setting.head, setting.tail) if place == VALUE else (setting.tail, setting.head)
-    if ahead != "":
-        found.extend(weights_of(elder + [setting.source]))
-    if behind != "":
-        found.extend(weights_of(elder))
+def elder_places(rule):
+    """The places, each in a tuple, of the numbers of which a rule makes a number.
+
+    A told number stands at no place: its tuple is empty.
+    """
+    told, more, weight, times, number = rule
+    found = [()] if told != 0 else []
+    if more != 0:
+        found.append((weight,))
+    if times != 0:
+        found.append((number,))
     return found
 
 
-def elder_place(place, setting):
-    """The place of the number of the source that becomes the one at this place."""
-    if not setting.is_turned:
-        return place
-    return BACK if place == VALUE else VALUE
+def elder_figures(figure, elders):
+    """The figures ahead of a letter of which a figure behind it is made.
+
+    `elders` has the elder places for each number behind it.
+    """
+    found = elders[figure[0]]
+    for place in figure[1:]:
+        found = [tuple(sorted(one + more)) for one in found for more in elders[place]]
+    return found
 
 
-def needs(program):
-    """For each mode the figures that tell all that is written from there on."""
-    found = [{} for _ in program.ends]
-    queue = []
-    for mode, row in enumerate(program.ends):
-        if row is not None:
-            queue.extend([(mode, figure) for figure in row_figures(row)])
+def needs(ways, rows):
+    """For each mode the figures that tell the values of rows from there on.
+
+    `ways` has for each mode, and each letter, the next mode and the rules;
+    `rows` are pairs of a mode and a row of parts.
+    """
+    arriving = ways_to_modes(ways)
+    found = [{} for _ in ways]
+    queue = [(mode, figure) for mode, row in rows for figure in row_figures(row)]
     while queue:
         mode, figure = queue.pop()
-        if figure not in found[mode]:
+        # The product of no numbers is 1 for all inputs.
+        if figure != () and figure not in found[mode]:
             found[mode][figure] = True
-            queue.extend(elder_needs(program, mode, figure))
+            for before, elders in arriving[mode]:
+                queue.extend([(before, elder) for elder in elder_figures(figure, elders)])
     return [sorted(figures) for figures in found]
 
 
-def elder_needs(program, mode, figure):
-    """The modes, with figures, that a figure in a mode is made of."""
-    return [
-        (before, elder)
-        for before, row in enumerate(program.ways)
-        for target, settings in row
-        if target == mode
-        for elder in elder_figures(figure, settings)
-    ]
+def ways_to_modes(ways):
+    """For each mode the ways that lead there: the mode before, and the elder places."""
+    found = [[] for _ in ways]
+    for before, row in enumerate(ways):
+        for target, rules in row:
+            found[target].append((before, [elder_places(rule) for rule in rules]))
+    return found

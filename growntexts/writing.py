@@ -14,11 +14,17 @@ def check_input(text, letters):
 def stand(program, text):
     """The mode and the texts of all boxes behind an input."""
     check_input(text, program.letters)
-    mode, texts = program.begin
+    state = program.begin
     for letter in text:
-        mode, settings = program.way(mode, letter)
-        texts = tuple([set_box(setting, texts) for setting in settings])
-    return mode, texts
+        state = led(program, state, letter)
+    return state
+
+
+def led(program, state, letter):
+    """The mode and the texts of all boxes behind one letter more."""
+    mode, texts = state
+    target, settings = program.ways[mode][program.letters.index(letter)]
+    return target, tuple([set_box(setting, texts) for setting in settings])
 
 
 def set_box(setting, texts):

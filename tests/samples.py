@@ -23,6 +23,11 @@ LONG = "\n".join([
 ])
 
 
+def program_of(*lines):
+    """The program with these lines."""
+    return Program.read("\n".join(lines))
+
+
 def long_arguments():
     """The arguments of the program LONG, in lists where there may be lists."""
     ways = [
@@ -60,3 +65,56 @@ def outcome(work, *arguments, **named):
         return "returns", work(*arguments, **named)
     except Exception as error:
         return type(error).__name__, vars(error)
+
+
+# The two pairs of programs for which papers took longest.
+LATE_PAIRS = [
+    (
+        """program signs abc letters xyz
+begin 0 a -
+way 0 x 2 .0. a.1.
+way 0 y 1 .1.a b.~0.a
+way 0 z 2 .1. .~1.
+way 1 x 2 b.-. .~0.c
+way 1 y 0 a.-. a.1.
+way 1 z 1 a.0. c.1.ba
+way 2 x 2 baa.~0.c a.~0.cc
+way 2 y 0 .~0.bba abc.0.bc
+way 2 z 2 a.1.ca cb.~0.
+end 0 ~0 ~0
+end 1 ~1 1
+end 2 ~1 ~0""",
+        """program signs abc letters xyz
+begin 0 - a
+way 0 x 2 a.0. .1.
+way 0 y 1 b.~1.a .0.a
+way 0 z 2 .~0. .0.
+way 1 x 2 .~1.c b.-.
+way 1 y 0 a.0. a.-.
+way 1 z 1 c.0.ba a.1.
+way 2 x 2 a.~1.cc baa.~1.c
+way 2 y 0 abc.1.bc .~1.bba
+way 2 z 2 cb.~1. a.0.ca
+end 0 ~1 ~1
+end 1 ~0 0
+end 2 ~0 ~1""",
+    ),
+    (
+        """program signs ab letters xy
+begin 1 a -
+way 0 x 1 b.0. .1.a
+way 0 y 0 b.0.b bb.-.
+way 1 x 0 .0.b b.0.a
+way 1 y 0 a.~1. .1.
+end 0 1
+end 1 1 0""",
+        """program signs ab letters xy
+begin 1 - a
+way 0 x 1 .0.a b.1.
+way 0 y 0 bb.-. b.1.b
+way 1 x 0 b.1.a .1.b
+way 1 y 0 .0. a.~0.
+end 0 0
+end 1 0 1""",
+    ),
+]

@@ -9,13 +9,9 @@ from growntexts.settings import Setting
 from growntexts.shapes import Shape, within
 from growntexts.shaping import behind, joined, recoded, respelt, skipping, turned
 from growntexts.writing import write
-from tests.samples import LONG, MIRROR, OTHER, TWINS, outcome
-from tests.twins import Chance, doubled, first_found, inputs, reach_of, rehoused, some_program, some_programs
+from tests.samples import LONG, MIRROR, OTHER, TWINS, outcome, program_of
+from tests.twins import Chance, doubled, first_found, reach_of, rehoused, some_program, some_programs
 from tests.twins import some_setting, twins_of
-
-
-def program_of(*lines):
-    return Program.read("\n".join(lines))
 
 
 def teller(words, letters="x", ways=None, signs="ab"):

@@ -3,20 +3,18 @@
 import itertools
 import unittest
 
-from growntexts.papers import figures, paper, paper_holds
+from growntexts.alike import alike, parting
+from growntexts.papers import figure_plan, figures, packed, paper, paper_holds, states_behind, width_for
 from growntexts.programs import Program
+from growntexts.readers import Readers
 from growntexts.settings import Setting
 from growntexts.shapes import Shape, within
 from growntexts.shaping import behind, joined, respelt, turned
 from growntexts.writing import stand, write
-from tests.samples import LONG, MIRROR, OTHER, TWINS, any_values, outcome
+from tests.samples import LATE_PAIRS, LONG, MIRROR, OTHER, TWINS, any_values, outcome, program_of
 from tests.twins import Chance, doubled, first_found, inputs, rehoused, some_program, some_programs, twins_of
 
 LETTERS = "abcdefghijklmnopqrstuvwxyz"
-
-
-def program_of(*lines):
-    return Program.read("\n".join(lines))
 
 
 def value_of(text, signs):
@@ -244,6 +242,81 @@ class PaperTest(unittest.TestCase):
             self.assertEqual(outcome(paper, other, mirror), ("InvalidPair", {"word": "letters"}))
             for value in any_values() + [paper(mirror, mirror)]:
                 self.assertEqual(outcome(paper_holds, mirror, other, value), ("InvalidPair", {"word": "letters"}))
+
+
+class LatePairsTest(unittest.TestCase):
+    """The pairs for which these answers took longest: they stay what they are."""
+
+    def setUp(self):
+        self.pairs = [(Program.read(one), Program.read(other)) for one, other in LATE_PAIRS]
+
+    def test_answers(self):
+        for p, q in self.pairs:
+            self.assertIsNone(parting(p, q))
+            self.assertIs(alike(p, q), True)
+            value = paper(p, q)
+            self.assertTrue(has_form(value, p))
+            self.assertTrue(is_right(p, q, value))
+            self.assertIs(paper_holds(p, q, value), True)
+            self.assertIs(paper_holds(q, p, value), True)
+            self.assertIsNone(first_found(p, q, 4))
+
+    def test_as_many_entries_as_needed(self):
+        self.assertEqual([len(paper(p, q)) for p, q in self.pairs], [49, 36])
+
+    def test_papers_changed_in_some_entries(self):
+        chance = Chance(57)
+        for p, q in self.pairs:
+            value = paper(p, q)
+            for _ in range(30):
+                at, letter = chance.below(len(value)), chance.below(len(p.letters))
+                whole = list(value[at][1][letter])
+                whole[chance.below(len(whole))] += chance.one_of([-1, 1, 2**61, -(10**60)])
+                self.assertIs(paper_holds(p, q, with_sum(value, at, letter, tuple(whole))), False)
+            # A paper for other programs of this form.
+            self.assertIs(paper_holds(p, turned(q), value), False)
+
+    def test_parted(self):
+        for p, q in self.pairs:
+            other = turned(q)
+            found = first_found(p, other, 4)
+            self.assertIsNotNone(found)
+            self.assertEqual(parting(p, other), found)
+            self.assertIsNone(paper(p, other))
+
+
+class PackedTest(unittest.TestCase):
+    """Sums of rows are told by one integer for each row."""
+
+    def test_rows_are_equal_just_if_their_integers_are(self):
+        chance = Chance(58)
+        for _ in range(300):
+            width = 1 + chance.below(8)
+            rows = [[chance.below(2**width) for _ in range(4)] for _ in range(2)]
+            rows.append([chance.one_of([rows[0][at], rows[1][at]]) for at in range(4)])
+            for one, other in itertools.product(rows, repeat=2):
+                self.assertEqual(packed(one, width) == packed(other, width), one == other)
+
+    def test_width_is_enough(self):
+        for p, q in [(Program.read(MIRROR), Program.read(TWINS))] + [
+            (Program.read(one), Program.read(other)) for one, other in LATE_PAIRS
+        ]:
+            value = paper(p, q)
+            readers = Readers((p, q))
+            states = states_behind(readers, [text + letter for text, _ in value for letter in p.letters])
+            greatest = max(max(figures(p, q, text)) for text in states)
+            factor = max(abs(times) for _, sums in value for whole in sums for times in whole)
+            self.assertLess(greatest * factor * (len(value) + 1), 2 ** width_for(value, states))
+
+    def test_figures_that_are_the_same_are_told_once(self):
+        p, q = Program.read(MIRROR), Program.read(TWINS)
+        readers = Readers((p, q))
+        states = [readers.led_on(readers.first(), text) for text in inputs("xy", 4)]
+        singles, doubles, others = figure_plan(readers, states)
+        # The boxes of twins are that of mirror, and that turned about.
+        self.assertEqual((singles, doubles, others), ([0, 1, 2], [(0, 2), (1, 2), (2, 2)], []))
+        singles, doubles, others = figure_plan(readers, states[:1])
+        self.assertEqual((singles, doubles, others), ([0, 2], [(0, 2), (2, 2)], []))
 
 
 class PaperHoldsTest(unittest.TestCase):

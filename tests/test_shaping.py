@@ -7,12 +7,8 @@ from growntexts.programs import Program
 from growntexts.settings import Setting
 from growntexts.shaping import behind, joined, recoded, respelt, skipping, turned
 from growntexts.writing import stand, write
-from tests.samples import LONG, MIRROR, OTHER, TWINS, any_values, outcome
+from tests.samples import LONG, MIRROR, OTHER, TWINS, any_values, outcome, program_of
 from tests.twins import Chance, inputs, reach_of, some_program, some_programs
-
-
-def program_of(*lines):
-    return Program.read("\n".join(lines))
 
 
 def respelt_by(text, signs, table):

@@ -5,12 +5,8 @@ import unittest
 from growntexts.programs import Program
 from growntexts.settings import Setting
 from growntexts.writing import row_text, stand, write
-from tests.samples import LONG, MIRROR, OTHER, TWINS, any_values, outcome
+from tests.samples import LONG, MIRROR, OTHER, TWINS, any_values, outcome, program_of
 from tests.twins import inputs
-
-
-def program_of(*lines):
-    return Program.read("\n".join(lines))
 
 
 class ExamplesTest(unittest.TestCase):

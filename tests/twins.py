@@ -65,6 +65,12 @@ def some_programs(seed, many):
         yield some_program(chance, signs, letters, 1 + chance.below(3), 1 + chance.below(2), chance.below(4))
 
 
+def some_small_programs(seed, many):
+    """So many small programs of all kinds, some of them with each mode twice."""
+    for at, program in enumerate(some_programs(seed, many)):
+        yield doubled(program) if at % 4 == 0 else program
+
+
 def rehoused(program, places, turned):
     """The program with other numbers of boxes, some of which are kept turned about.
 
