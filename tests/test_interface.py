@@ -24,6 +24,30 @@ CALLS = {
     "shapes": {"Shape": "letters rooms ends", "within": "program shape"},
     "alike": {"alike": "p q", "parting": "p q"},
     "papers": {"figures": "p q text", "paper": "p q", "paper_holds": "p q value"},
+    "equations": {
+        "leads": "program mode",
+        "always_same": "program mode one other",
+        "first_unlike": "program mode one other",
+        "same_rows": "program mode",
+        "around": "program mode",
+    },
+    "relations": {
+        "counts": "program text",
+        "holds": "program mode relation",
+        "breaking": "program mode relation",
+        "relations": "program mode",
+    },
+    "letters": {
+        "idle": "program",
+        "idle_break": "program letter",
+        "swapping": "program",
+        "swap_break": "program one other",
+    },
+    "growth": {"longest": "program many", "shortest": "program many", "greatest": "program", "slope": "program"},
+    "reaching": {"reaches": "program text", "first_input": "program text"},
+    "filling": {"filled": "program places texts", "fillings": "program places examples longest"},
+    "live": {"Live": "program"},
+    "desk": {"Desk": ""},
 }
 
 # Of each class: methods with their parameters.
@@ -31,6 +55,15 @@ METHODS = {
     ("settings", "Setting"): {"over": "self text", "read": "text", "__eq__": "self other", "__str__": "self"},
     ("programs", "Program"): {"way": "self mode letter", "read": "text", "__eq__": "self other", "__str__": "self"},
     ("shapes", "Shape"): {"lets": "self text"},
+    ("live", "Live"): {
+        "take": "self letter",
+        "several": "self letters",
+        "change": "self program",
+        "undo": "self",
+        "within": "self work",
+        "__len__": "self",
+    },
+    ("desk", "Desk"): {"say": "self command"},
 }
 
 
@@ -65,6 +98,10 @@ class InterfaceTest(unittest.TestCase):
         for (module, name), methods in METHODS.items():
             if "read" in methods:
                 self.assertIsInstance(vars(getattr(module_of(module), name))["read"], classmethod)
+
+    def test_properties(self):
+        for name in ("program", "spot", "texts", "heard", "shown"):
+            self.assertIsInstance(vars(module_of("live").Live)[name], property)
 
     def test_the_package_is_empty_but_for_a_docstring(self):
         tree = ast.parse((PACKAGE / "__init__.py").read_text(encoding="ascii"))

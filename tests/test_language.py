@@ -38,6 +38,17 @@ BARRED_NODES = (
 LISTS_ONLY = {"any", "all", "min", "max", "sum", "sorted"}
 
 
+VIEWS = {"zip", "enumerate", "reversed", "range", "items", "keys", "values"}
+TAKING_VIEWS = {"list", "tuple", "dict", "sorted", "sum", "any", "all", "enumerate", "zip", "min", "max", "reversed", "len"}
+
+
+def name_of(node):
+    """The name of what a node calls, or None."""
+    if not isinstance(node, ast.Call):
+        return None
+    return node.func.attr if isinstance(node.func, ast.Attribute) else getattr(node.func, "id", None)
+
+
 def functions_of(tree):
     return [node for node in ast.walk(tree) if isinstance(node, ast.FunctionDef)]
 
@@ -157,7 +168,9 @@ class LanguageTest(unittest.TestCase):
         for _, _, tree in each_file():
             for name in bound_names(tree):
                 self.assertNotIn(name, BARRED_NAMES)
-                self.assertNotIn(name, dir(builtins))
+                # A session of doctest leaves a builtin of this name, which may be assigned.
+                if name != "_":
+                    self.assertNotIn(name, dir(builtins))
                 if name not in DOUBLE:
                     self.assertRegex(name, r"\A(_?[A-Za-z][A-Za-z0-9_]*|_)\Z")
             local = set(bound_names(tree))
@@ -197,6 +210,74 @@ class LanguageTest(unittest.TestCase):
             for node in ast.walk(tree):
                 if isinstance(node, ast.Call) and isinstance(node.func, ast.Name) and node.func.id in LISTS_ONLY:
                     self.assertNotIsInstance(node.args[0], ast.GeneratorExp)
+
+    def test_views_and_the_like_are_iterated_at_once(self):
+        for _, _, tree in each_file():
+            for node in ast.walk(tree):
+                if not isinstance(node, ast.Call) or name_of(node) in TAKING_VIEWS:
+                    continue
+                for argument in node.args:
+                    self.assertNotIn(name_of(argument), VIEWS, ast.unparse(node))
+            for node in ast.walk(tree):
+                if isinstance(node, (ast.Assign, ast.Return)):
+                    self.assertNotIn(name_of(node.value), VIEWS, ast.unparse(node))
+
+    def test_sets_are_only_tested_measured_and_sorted(self):
+        for _, _, tree in each_file():
+            allowed = [
+                argument for node in ast.walk(tree)
+                if isinstance(node, ast.Call) and name_of(node) in ("len", "sorted") for argument in node.args
+            ]
+            for node in ast.walk(tree):
+                if isinstance(node, (ast.Set, ast.SetComp)) or name_of(node) in ("set", "frozenset"):
+                    self.assertIn(node, allowed, ast.unparse(node))
+
+    def test_stars_in_calls(self):
+        own = {node.name for _, _, tree in each_file() for node in ast.walk(tree) if isinstance(node, (ast.FunctionDef, ast.ClassDef))}
+        for _, _, tree in each_file():
+            local = {node.id for node in ast.walk(tree) if isinstance(node, ast.Name) and isinstance(node.ctx, ast.Store)}
+            for node in ast.walk(tree):
+                if isinstance(node, ast.Call) and any(isinstance(argument, ast.Starred) for argument in node.args):
+                    self.assertIn(name_of(node), own | local | {"zip", "max", "min"})
+                    for argument in node.args:
+                        if isinstance(argument, ast.Starred):
+                            self.assertIsInstance(argument.value, (ast.Name, ast.Attribute))
+
+    def test_named_expressions_stand_in_tests(self):
+        for _, _, tree in each_file():
+            tests = [node.test for node in ast.walk(tree) if isinstance(node, (ast.If, ast.While))]
+            found = [one for test in tests for one in ast.walk(test) if isinstance(one, ast.NamedExpr)]
+            self.assertEqual(len(found), len([node for node in ast.walk(tree) if isinstance(node, ast.NamedExpr)]))
+            for one in functions_of(tree):
+                named = {node.target.id for node in ast.walk(one) if isinstance(node, ast.NamedExpr)}
+                loops = [node.target for node in ast.walk(one) if isinstance(node, (ast.For, ast.comprehension))]
+                self.assertFalse(named & {node.id for loop in loops for node in ast.walk(loop) if isinstance(node, ast.Name)})
+                self.assertFalse(named & {node.arg for node in ast.walk(one) if isinstance(node, ast.arg)})
+
+    def test_handlers_and_finally(self):
+        for _, _, tree in each_file():
+            for node in ast.walk(tree):
+                if isinstance(node, ast.Try):
+                    self.assertLessEqual({ast.unparse(handler.type) for handler in node.handlers}, {"InvalidText"})
+                    for one in node.finalbody:
+                        self.assertIsInstance(one, ast.Assign)
+                        parts = [part for part in ast.walk(one) if isinstance(part, ast.expr)]
+                        self.assertFalse([part for part in parts if not isinstance(part, (ast.Name, ast.Attribute, ast.Tuple))])
+
+    def test_names_of_methods_and_attributes(self):
+        # No name is a method and an attribute, and properties have names of their own.
+        methods, properties, attributes = set(), set(), set()
+        for _, _, tree in each_file():
+            for node in ast.walk(tree):
+                if isinstance(node, ast.ClassDef):
+                    for one in [one for one in node.body if isinstance(one, ast.FunctionDef)]:
+                        is_property = "property" in [ast.unparse(mark) for mark in one.decorator_list]
+                        (properties if is_property else methods).add(one.name)
+                if isinstance(node, ast.Attribute) and isinstance(node.ctx, ast.Store):
+                    attributes.add(node.attr)
+        self.assertEqual(properties, {"program", "spot", "texts", "heard", "shown"})
+        self.assertEqual((methods & attributes, properties & attributes, methods & properties), (set(), set(), set()))
+        self.assertEqual(attributes & {"items", "keys", "values", "pop", "update", "append", "clear", "insert", "remove", "args"}, set())
 
     def test_methods_of_builtin_values(self):
         own = {"format"}
